@@ -1,0 +1,1 @@
+"""Hangstill: hanging balances."""
