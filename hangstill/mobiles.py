@@ -1,6 +1,6 @@
 """Mobiles: their leaves, what they weigh, and which of their rods tip."""
 
-from hangstill.errors import NoMobile, NoWeights
+from hangstill.errors import NoMobile, NoWay, NoWeights
 
 LONGEST_NAME = 3
 LONGEST_ARM = 9
@@ -63,6 +63,30 @@ def check_weights(mobile, weights):
     for way, name in leaves_below(mobile, ""):
         if name not in numbers:
             raise NoWeights(f"there is no weight for {name}")
+
+
+def part_at(mobile, way):
+    if not isinstance(way, str):
+        return None
+    part = mobile
+    for sign in way:
+        if part[0] == "weight" or sign not in ("l", "r"):
+            return None
+        part = part[3] if sign == "l" else part[4]
+    return part
+
+
+def rod_at(mobile, way):
+    part = part_at(mobile, way)
+    if part is None or part[0] == "weight":
+        raise NoWay("there is no rod")
+    return part
+
+
+def rods_within(mobile):
+    if mobile[0] == "weight":
+        return 0
+    return 1 + max(rods_within(mobile[3]), rods_within(mobile[4]))
 
 
 def leaves_below(mobile, way):

@@ -102,6 +102,13 @@ WRONG_WEIGHTS += [
 ]
 
 
+# Nowhere in any mobile is there anything at these.
+WRONG_WAYS = [thing for thing in ODD_THINGS if not isinstance(thing, str)]
+WRONG_WAYS += ["a", "weight", "L", "R", "lL", "x", " ", "l ", " l", "l\n", "\n", "0", "1", "l,r", "left", "\u00e4",
+               "llllll", "rrrrrr", "lrlrlr", "l" * 5000, b"l", b"r", ["l"], ("l",), {"l"}, ["l", "r"], ("r", "l"), [],
+               ("",), 3, 4, LOOP]
+
+
 def random_mobile(chance, names, rods, longest=9):
     if rods == 0 or chance.random() < 0.25:
         return weight(chance.choice(names))
@@ -147,6 +154,42 @@ def names_of(mobile):
     if mobile[0] == "weight":
         return {mobile[1]}
     return names_of(mobile[3]) | names_of(mobile[4])
+
+
+def at_way(mobile, way):
+    for sign in way:
+        mobile = mobile[3] if sign == "l" else mobile[4]
+    return mobile
+
+
+def rod_ways(mobile, way=""):
+    if mobile[0] == "weight":
+        return []
+    return [way] + rod_ways(mobile[3], way + "l") + rod_ways(mobile[4], way + "r")
+
+
+def leaf_ways(mobile, way=""):
+    if mobile[0] == "weight":
+        return [way]
+    return leaf_ways(mobile[3], way + "l") + leaf_ways(mobile[4], way + "r")
+
+
+def depth(mobile):
+    return max(len(way) for way in leaf_ways(mobile))
+
+
+def with_arms(mobile, arms):
+    """The mobile with the next two of these as arms of each rod, in the order of rod_ways."""
+    if mobile[0] == "weight":
+        return mobile
+    left = next(arms)
+    right = next(arms)
+    one = with_arms(mobile[3], arms)
+    return rod(left, right, one, with_arms(mobile[4], arms))
+
+
+def told_weights(numbers):
+    return tuple(sorted(numbers.items()))
 
 
 def rods_of(mobile):

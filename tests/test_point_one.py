@@ -3,9 +3,13 @@
 import copy
 import unittest
 
+from hangstill.arming import arms_for, how_many_arms
+from hangstill.choosing import choices, one_changed
+from hangstill.deeds import hung, longer, plain, put, turned
 from hangstill.errors import HangError
 from hangstill.halls import is_ring, ring, settled, together
 from hangstill.mobiles import is_still, leaves, load, tips
+from hangstill.shapes import how_many_turned, least_turned, same_shape
 from hangstill.shares import alike, bar, least, shares
 
 from samples import A, B, BARRED, C, DEEP, TWICE, chain, rod
@@ -20,12 +24,26 @@ CALLS = (
     (shares, (DEEP,)), (shares, (BARRED,)), (bar, (BARRED,)), (bar, (TWICE,)), (least, (DEEP,)),
     (alike, (DEEP, TWICE)), (ring, (THREE,)), (ring, (STILL,)), (is_ring, (THREE, AROUND)), (is_ring, (STILL, AROUND)),
     (together, (STILL,)), (settled, (STILL, (("b", 7),))), (settled, (STILL, ())),
+    (turned, (DEEP, "r")), (longer, (DEEP, "r", 3)), (plain, (rod(2, 4, A, DEEP),)), (put, (DEEP, "rl", TWICE)),
+    (put, (DEEP, "", TWICE)), (hung, (DEEP, TWICE, (("a", 2), ("b", 4), ("c", 3)))),
+    (least_turned, (DEEP,)), (how_many_turned, (TWICE,)), (same_shape, (DEEP, TWICE)), (same_shape, (DEEP, DEEP)),
+    (arms_for, (DEEP, WEIGHTS)), (how_many_arms, (DEEP, WEIGHTS)),
+    (choices, (DEEP, (1, 2, 3, 4, 6))), (choices, (A, (1, 2))), (choices, (BARRED, (1, 2))),
+    (one_changed, (TWICE, WEIGHTS)), (one_changed, (rod(1, 1, A, B), WEIGHTS)), (one_changed, (DEEP, WEIGHTS)),
+    (one_changed, (A, WEIGHTS)), (one_changed, (BARRED, WEIGHTS)),
 )
 
 REFUSED = (
     (leaves, (["weight", "a"],)), (load, (chain(6), [])), (tips, (DEEP, [("a", 1)])), (is_still, (DEEP, {"a": 1})),
     (shares, ([A],)), (bar, ({},)), (least, (BARRED,)), (alike, (DEEP, [])), (ring, ([A],)), (is_ring, ([A], AROUND)),
     (together, (THREE,)), (settled, (THREE, ())), (settled, (STILL, [("b", 7)])),
+    (turned, (list(DEEP), "r")), (turned, (DEEP, ["r"])), (turned, (DEEP, "l")), (longer, (DEEP, "r", 4)),
+    (longer, (DEEP, "r", [2])), (plain, ([A],)), (put, (DEEP, "l", chain(5))), (put, (DEEP, "l", ["weight", "a"])),
+    (hung, (A, B, [("a", 1), ("b", 1)])), (hung, (A, B, (("a", 1), ("b", 10)))),
+    (hung, (chain(5), A, tuple([(name, 1) for name in "abcdef"]))), (least_turned, ([],)), (how_many_turned, ({},)),
+    (same_shape, (A, ["weight", "a"])), (arms_for, (DEEP, [("a", 1)])), (arms_for, (DEEP, WEIGHTS[:2] + (("c", 40),))),
+    (how_many_arms, (DEEP, {"a": 1})), (choices, (DEEP, [1, 2])), (choices, (DEEP, ([1], [2]))),
+    (one_changed, (DEEP, [["a", 1]])), (one_changed, ([DEEP], WEIGHTS)),
 )
 
 
@@ -75,6 +93,15 @@ class PointOne(unittest.TestCase):
         self.assertIsInstance(tips(DEEP, WEIGHTS), list)
         self.assertIsInstance(bar(BARRED), tuple)
         self.assertIsInstance(ring(THREE), list)
+        for told in (turned(DEEP, "r"), longer(DEEP, "r", 3), plain(DEEP), put(DEEP, "r", A), least_turned(DEEP),
+                     arms_for(DEEP, WEIGHTS), hung(A, B, WEIGHTS)):
+            self.assertIsInstance(told, tuple)
+        for told in (how_many_turned(DEEP), how_many_arms(DEEP, WEIGHTS)):
+            self.assertIs(type(told), int)
+        for told in (choices(DEEP, (1, 2, 3)), one_changed(TWICE, WEIGHTS)):
+            self.assertIsInstance(told, list)
+            for part in told:
+                self.assertIsInstance(part, tuple)
 
 
 if __name__ == "__main__":

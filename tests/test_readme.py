@@ -14,11 +14,11 @@ class Readme(unittest.TestCase):
         for line in lines:
             code, sign, told = line.partition("  # ")
             if sign and " = " not in code:
-                self.assertEqual(eval(code.strip(), names), eval(told.strip()), line)
+                self.assertEqual(eval(code.strip(), names), eval(told.strip(), names), line)
                 shown += 1
             else:
                 exec(code.strip(), names)
-        self.assertGreater(shown, 10)
+        self.assertGreater(shown, 20)
 
 
 if __name__ == "__main__":

@@ -1,0 +1,32 @@
+"""Every name and argument of the interface that is there so far."""
+
+import importlib
+import inspect
+import unittest
+
+FUNCTIONS = {
+    "mobiles": {"leaves": "mobile", "load": "mobile weights", "tips": "mobile weights", "is_still": "mobile weights"},
+    "shares": {"shares": "mobile", "bar": "mobile", "least": "mobile", "alike": "one other"},
+    "halls": {"ring": "hall", "is_ring": "hall thing", "together": "hall", "settled": "hall told"},
+    "deeds": {"turned": "mobile way", "longer": "mobile way many", "plain": "mobile", "put": "mobile way part",
+              "hung": "one other weights"},
+    "shapes": {"least_turned": "mobile", "how_many_turned": "mobile", "same_shape": "one other"},
+    "arming": {"arms_for": "mobile weights", "how_many_arms": "mobile weights"},
+    "choosing": {"choices": "mobile numbers", "one_changed": "mobile weights"},
+}
+
+
+class Interface(unittest.TestCase):
+    def test_names_and_arguments(self):
+        for module, functions in FUNCTIONS.items():
+            for name, arguments in functions.items():
+                with self.subTest(module=module, name=name):
+                    function = getattr(importlib.import_module(f"hangstill.{module}"), name)
+                    parameters = inspect.signature(function).parameters
+                    self.assertEqual(list(parameters), arguments.split())
+                    for parameter in parameters.values():
+                        self.assertIs(parameter.default, inspect.Parameter.empty)
+
+
+if __name__ == "__main__":
+    unittest.main()
