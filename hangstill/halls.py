@@ -1,7 +1,7 @@
 """Halls: mobiles that hang still by common weights, or a ring of steps that bars them."""
 
 from hangstill.errors import Never, NoHall, NoWeights
-from hangstill.mobiles import is_mobile, is_number, is_weights
+from hangstill.mobiles import check_are_weights, is_mobile, is_number
 from hangstill.ratios import product, quotient
 from hangstill.shares import bar, least_weights, name_shares
 
@@ -111,8 +111,7 @@ def group_weights(by_place, paths):
 
 
 def check_told(by_place, told):
-    if not is_weights(told):
-        raise NoWeights("these are no weights")
+    check_are_weights(told)
     for name, number in told:
         if not any([name in table for table in by_place]):
             raise NoWeights(f"there is no {name} in the hall")

@@ -56,9 +56,13 @@ def is_weights(thing):
     return names == sorted(set(names))
 
 
-def check_weights(mobile, weights):
-    if not is_weights(weights):
+def check_are_weights(thing):
+    if not is_weights(thing):
         raise NoWeights("these are no weights")
+
+
+def check_weights(mobile, weights):
+    check_are_weights(weights)
     numbers = dict(weights)
     for way, name in leaves_below(mobile, ""):
         if name not in numbers:
@@ -99,15 +103,18 @@ def load_below(mobile, numbers):
     return sum([numbers[name] for way, name in leaves_below(mobile, "")])
 
 
+def pulls(rod, numbers):
+    return (rod[1] * load_below(rod[3], numbers), rod[2] * load_below(rod[4], numbers))
+
+
 def tips_below(mobile, way, numbers):
     if mobile[0] == "weight":
         return []
-    left = mobile[1] * load_below(mobile[3], numbers)
-    right = mobile[2] * load_below(mobile[4], numbers)
+    both = pulls(mobile, numbers)
     told = []
-    if left > right:
+    if both[0] > both[1]:
         told.append((way, "left"))
-    if left < right:
+    if both[0] < both[1]:
         told.append((way, "right"))
     return told + tips_below(mobile[3], way + "l", numbers) + tips_below(mobile[4], way + "r", numbers)
 

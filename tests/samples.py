@@ -248,3 +248,25 @@ def can_hang(hall):
     names = set().union(*[names_of(mobile) for mobile in hall])
     rows = [row for mobile in hall for row in rods_of(mobile)]
     return len(names) - rank(rows) == len(groups_of(hall))
+
+
+def random_halls(seed, how_many, names, rods=2, longest=2):
+    """Halls of mobiles with whatever arms: some can hang still together, some can not."""
+    chance = random.Random(seed)
+    told = []
+    for number in range(how_many):
+        mobiles = random_mobiles(f"{seed} {number}", 30, names, rods, longest)
+        mobiles = [mobile for mobile in mobiles if can_hang((mobile,))]
+        told.append(tuple(mobiles[:chance.randint(1, 6)]))
+    return told
+
+
+def fitting_halls(seed, how_many):
+    """Halls that can hang still together, with weights by which they do."""
+    chance = random.Random(seed)
+    told = []
+    for number in range(how_many):
+        numbers = {name: chance.choice((1, 2, 3, 4, 6, 9, 12)) for name in "abcdefgh"}
+        hall = tuple([fitting_mobile(chance, numbers, 3) for place in range(chance.randint(1, 6))])
+        told.append((hall, numbers))
+    return told

@@ -7,10 +7,10 @@ from math import gcd
 from hangstill.errors import Never, NoHall, NoWeights
 from hangstill.halls import is_ring, ring, settled, together
 from hangstill.mobiles import leaves
-from hangstill.shares import bar, shares
+from hangstill.shares import shares
 
 from samples import (A, ANY, B, BARRED, C, D, DEEP, ODD_THINGS, Strange, WRONG_MOBILES, WRONG_WEIGHTS, can_hang, chain,
-                     fitting_mobile, groups_of, names_of, random_mobiles, rod, stays, weight)
+                     fitting_halls, groups_of, names_of, random_halls, rod, stays, weight)
 
 # a is twice b, b is c, c is a: around, a would be half of itself.
 THREE = (rod(1, 2, A, B), rod(1, 1, B, C), rod(1, 1, C, A))
@@ -38,28 +38,6 @@ def surely_ring(hall, steps):
             return False
         ratio *= tables[place][other] / tables[place][one]
     return len(steps) > 0 and steps[-1][2] == steps[0][1] and ratio != 1
-
-
-def random_halls(seed, how_many, names, rods=2, longest=2):
-    """Halls of mobiles with whatever arms: some can hang still together, some can not."""
-    chance = random.Random(seed)
-    told = []
-    for number in range(how_many):
-        mobiles = random_mobiles(f"{seed} {number}", 30, names, rods, longest)
-        mobiles = [mobile for mobile in mobiles if bar(mobile) is None]
-        told.append(tuple(mobiles[:chance.randint(1, 6)]))
-    return told
-
-
-def fitting_halls(seed, how_many):
-    """Halls that can hang still together, with weights by which they do."""
-    chance = random.Random(seed)
-    told = []
-    for number in range(how_many):
-        numbers = {name: chance.choice((1, 2, 3, 4, 6, 9, 12)) for name in "abcdefgh"}
-        hall = tuple([fitting_mobile(chance, numbers, 3) for place in range(chance.randint(1, 6))])
-        told.append((hall, numbers))
-    return told
 
 
 class WhatHallsAre(unittest.TestCase):

@@ -16,18 +16,23 @@ RShift UnaryOp Not USub UAdd Invert Lambda IfExp Dict List Tuple ListComp compre
 Is IsNot In NotIn Call keyword JoinedStr FormattedValue Constant Attribute Subscript Slice Name Load Store""".split()
 
 # L8.
-BUILTINS = """len range enumerate zip min max sum abs sorted reversed int str bool list tuple dict set frozenset isinstance
-ord repr any all divmod Exception ValueError TypeError KeyError IndexError LookupError ZeroDivisionError ArithmeticError
-OverflowError RuntimeError NotImplementedError AttributeError StopIteration""".split()
+BUILTINS = """len range enumerate zip min max sum abs sorted reversed int str bool list tuple dict set frozenset
+isinstance ord repr any all divmod Exception ValueError TypeError KeyError IndexError LookupError ZeroDivisionError
+ArithmeticError OverflowError RuntimeError NotImplementedError AttributeError StopIteration""".split()
 
 # L25.
-METHODS = """append clear copy count endswith extend find get index insert isalnum isalpha isdigit islower isspace isupper
-items join keys ljust lower lstrip partition pop remove replace reverse rfind rjust rpartition rsplit rstrip setdefault
-split splitlines startswith strip update upper values zfill bit_length __init__""".split()
+METHODS = """append clear copy count endswith extend find get index insert isalnum isalpha isdigit islower isspace
+isupper items join keys ljust lower lstrip partition pop remove replace reverse rfind rjust rpartition rsplit rstrip
+setdefault split splitlines startswith strip update upper values zfill bit_length __init__""".split()
 
 # L17.
 WORDS = """type typing typing_extensions enum Enum IntEnum StrEnum Flag IntFlag Generic Protocol ABC ABCMeta namedtuple
 NamedTuple TypedDict TYPE_CHECKING abstractmethod""".split()
+
+
+# L23.
+WALKED = "zip enumerate reversed range items keys values".split()
+WALKERS = "list tuple dict sorted sum any all enumerate zip min max".split()
 
 
 def bound_names(tree):
@@ -134,6 +139,11 @@ class Language(unittest.TestCase):
                     self.assertFalse(node.args.vararg or node.args.kwarg or node.args.kwonlyargs or node.decorator_list)
                 if isinstance(node, ast.Compare):
                     self.beside_is(node)
+                if isinstance(node, ast.FormattedValue):
+                    self.assertIsInstance(node.value, ast.Name)
+                    self.assertIsNone(node.format_spec)
+                if isinstance(node, ast.Expr) and node not in tree.body[:1]:
+                    self.assertIsInstance(node.value, ast.Call)
 
     def beside_is(self, node):
         for sign, part in zip(node.ops, node.comparators):
@@ -159,6 +169,43 @@ class Language(unittest.TestCase):
             for node in ast.walk(tree):
                 if isinstance(node, ast.Name):
                     self.assertIn(node.id, known)
+
+    def test_classes(self):
+        for file, text, tree in self.each():
+            for node in ast.walk(tree):
+                if isinstance(node, ast.ClassDef):
+                    self.assertIn(node, tree.body)
+                    self.assertLessEqual(len(node.bases), 1)
+                    self.assertFalse(node.keywords or node.decorator_list)
+                    for part in node.body:
+                        self.assertIsInstance(part, (ast.FunctionDef, ast.Pass))
+                    methods = [part.name for part in node.body if isinstance(part, ast.FunctionDef)]
+                    self.assertEqual(len(methods), len(set(methods)))
+
+    def test_own_methods_and_values(self):
+        values = []
+        for file, text, tree in self.each():
+            for node in ast.walk(tree):
+                if isinstance(node, ast.Attribute) and isinstance(node.ctx, ast.Store):
+                    self.assertEqual(ast.unparse(node.value), "self")
+                    values.append(node.attr)
+        self.assertEqual(set(values) & set(own_methods()), set())
+        # Names that no value of Python's own has, so that each call or value shows whose it is.
+        for name in values + [name for name in own_methods() if name != "__init__"]:
+            for value in ("", 0, [], {}, set(), b"", ()):
+                self.assertFalse(hasattr(value, name), name)
+
+    def test_walked_at_once(self):
+        for file, text, tree in self.each():
+            walked = []
+            for node in ast.walk(tree):
+                if isinstance(node, (ast.For, ast.comprehension)):
+                    walked.append(node.iter)
+                if isinstance(node, ast.Call) and isinstance(node.func, ast.Name) and node.func.id in WALKERS:
+                    walked.extend(node.args)
+            for node in ast.walk(tree):
+                if isinstance(node, ast.Call) and ast.unparse(node.func).rpartition(".")[2] in WALKED:
+                    self.assertIn(node, walked)
 
     def test_methods(self):
         free = METHODS + own_methods()
